@@ -1,0 +1,1 @@
+"""Tilefall: long rows of standing tiles that topple one another."""

@@ -1,0 +1,57 @@
+"""Exact fractions: tuples (top, bottom) of whole numbers, bottom 1 or more, in lowest terms."""
+
+from tilefall.errors import NoNumber
+
+
+def is_whole(thing):
+    # To Python True and False are ints as well.
+    return isinstance(thing, int) and not isinstance(thing, bool)
+
+
+def common_divisor(one, other):
+    while other != 0:
+        rest = one % other
+        one = other
+        other = rest
+    return abs(one)
+
+
+def is_fraction(thing):
+    if not isinstance(thing, tuple) or len(thing) != 2:
+        return False
+    if not is_whole(thing[0]) or not is_whole(thing[1]):
+        return False
+    return thing[1] >= 1 and common_divisor(thing[0], thing[1]) == 1
+
+
+def fraction(top, bottom=1):
+    if not is_whole(top) or not is_whole(bottom):
+        raise NoNumber("a fraction is made of whole numbers")
+    if bottom == 0:
+        raise NoNumber("a fraction's bottom is not 0")
+    divisor = common_divisor(top, bottom)
+    if bottom < 0:
+        # A divisor below 0 moves the sign to the top.
+        divisor = -divisor
+    return (top // divisor, bottom // divisor)
+
+
+def added(one, other):
+    return fraction(one[0] * other[1] + other[0] * one[1], one[1] * other[1])
+
+
+def lessened(one, other):
+    return fraction(one[0] * other[1] - other[0] * one[1], one[1] * other[1])
+
+
+def timed(one, other):
+    return fraction(one[0] * other[0], one[1] * other[1])
+
+
+def divided(one, other):
+    # By (0, 1) the bottom comes to 0, which is refused there.
+    return fraction(one[0] * other[1], one[1] * other[0])
+
+
+def is_less(one, other):
+    return one[0] * other[1] < other[0] * one[1]
