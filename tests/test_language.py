@@ -46,6 +46,34 @@ NODES = (
 )
 
 
+# What changes the thing whose method it is.
+CHANGES = set("append clear extend insert pop remove reverse setdefault update".split())
+
+# The values of objects that may be called like a method of Python's own.
+VALUES = set("count index title find get join lower upper split strip copy add".split())
+
+WALKED = set("zip enumerate reversed range items keys values".split())
+
+WALKERS = set("list tuple dict sorted sum any all enumerate zip min max".split())
+
+KEYWORDS = {
+    "sorted": ("key", "reverse"), "min": ("key", "default"), "max": ("key", "default"), "sum": ("start",),
+    "enumerate": ("start",), "zip": ("strict",),
+}
+
+
+def called_name(node):
+    return node.func.id if isinstance(node.func, ast.Name) else getattr(node.func, "attr", None)
+
+
+def first_name(node):
+    while not isinstance(node, ast.Name):
+        node = getattr(node, "value", getattr(node, "func", None))
+        if node is None:
+            return None
+    return node.id
+
+
 def source_files():
     return sorted(path for path in PACKAGE.rglob("*") if path.is_file() and "__pycache__" not in path.parts)
 
@@ -276,6 +304,108 @@ class TheCode(unittest.TestCase):
             if isinstance(node.value, ast.Call) and isinstance(node.value.func, ast.Attribute):
                 self.assertNotIn(node.value.func.attr, ("items", "keys", "values"))
         self.check_each((ast.Assign, ast.Return), check)
+
+    def test_l18_l26_values_of_objects(self):
+        foreign = set(name for kind in (str, int, list, dict, set, bytes) for name in dir(kind))
+
+        def check(node):
+            if isinstance(node.ctx, ast.Store):
+                self.assertIsInstance(node.value, ast.Name)
+                self.assertNotIn(node.attr, self.methods)
+                self.assertNotIn(node.attr, foreign - VALUES)
+        self.check_each(ast.Attribute, check)
+
+    def test_l26_methods_that_are_given(self):
+        foreign = set(name for kind in (str, int, list, dict, set, bytes) for name in dir(kind))
+        self.assertEqual(self.methods & (foreign - METHODS - CLASS_METHODS - set(("add", "discard"))), set())
+
+    def test_l22_keywords(self):
+        def check(node):
+            if isinstance(node.func, ast.Name) and node.func.id in OWN_NAMES:
+                for keyword in node.keywords:
+                    self.assertIn(keyword.arg, KEYWORDS.get(node.func.id, ()))
+            elif isinstance(node.func, ast.Attribute) and node.func.attr in METHODS:
+                self.assertEqual(node.keywords, [])
+        self.check_each(ast.Call, check)
+
+    def test_l22_python_s_own_are_called_and_not_kept(self):
+        for module, tree in self.trees.items():
+            free = set()
+            for node in ast.walk(tree):
+                if isinstance(node, ast.Call):
+                    free.add(node.func)
+                    free.update(keyword.value for keyword in node.keywords if keyword.arg == "key")
+                    if isinstance(node.func, ast.Name) and node.func.id == "isinstance":
+                        free.update(ast.walk(node.args[1]))
+                elif isinstance(node, ast.ClassDef):
+                    free.update(node.bases)
+                elif isinstance(node, ast.ExceptHandler):
+                    free.update(ast.walk(node.type))
+            for node in ast.walk(tree):
+                if isinstance(node, ast.Name) and node.id in OWN_NAMES:
+                    with self.subTest(module=module, line=node.lineno):
+                        self.assertIn(node, free)
+
+    def test_l23_where_walks_stand(self):
+        for module, tree in self.trees.items():
+            free = set()
+            for node in ast.walk(tree):
+                if isinstance(node, (ast.For, ast.comprehension)):
+                    free.add(node.iter)
+                elif isinstance(node, ast.Call) and isinstance(node.func, ast.Name) and node.func.id in WALKERS:
+                    free.update(node.args if node.func.id in ("zip", "enumerate") else node.args[:1])
+                elif isinstance(node, ast.Call) and isinstance(node.func, ast.Attribute) and node.func.attr == "join":
+                    free.update(node.args)
+            for node in ast.walk(tree):
+                if isinstance(node, ast.Call) and called_name(node) in WALKED:
+                    with self.subTest(module=module, line=node.lineno):
+                        self.assertIn(node, free)
+
+    def test_l23_what_a_loop_walks_is_not_changed_in_it(self):
+        def check(node):
+            walked = [part.id for part in ast.walk(node.iter) if isinstance(part, ast.Name)]
+            for part in [part for row in node.body for part in ast.walk(row)]:
+                if isinstance(part, ast.Call) and isinstance(part.func, ast.Attribute) and part.func.attr in CHANGES:
+                    self.assertNotIn(first_name(part.func.value), walked)
+                elif isinstance(part, ast.Subscript) and isinstance(part.ctx, ast.Store):
+                    self.assertNotIn(first_name(part), walked)
+        self.check_each(ast.For, check)
+
+    def test_l15_what_stands_at_a_file_s_top_is_only_read(self):
+        for module, tree in self.trees.items():
+            kept = [
+                node.targets[0].id for node in tree.body
+                if isinstance(node, ast.Assign) and isinstance(node.value, (ast.List, ast.Dict))
+            ]
+            for node in ast.walk(tree):
+                changed = None
+                if isinstance(node, ast.Call) and isinstance(node.func, ast.Attribute) and node.func.attr in CHANGES:
+                    changed = first_name(node.func.value)
+                elif isinstance(node, ast.Subscript) and isinstance(node.ctx, ast.Store):
+                    changed = first_name(node)
+                elif isinstance(node, ast.Return) and isinstance(node.value, ast.Name):
+                    changed = node.value.id
+                with self.subTest(module=module, line=getattr(node, "lineno", 0)):
+                    self.assertNotIn(changed, kept)
+
+    def test_l21_annotations(self):
+        def check(node):
+            self.assertIsNone(getattr(node, "annotation", None))
+            self.assertIsNone(getattr(node, "returns", None))
+        self.check_each((ast.arg, ast.FunctionDef), check)
+
+    def test_l24_sets(self):
+        for module, tree in self.trees.items():
+            free = set()
+            for node in ast.walk(tree):
+                if isinstance(node, ast.Compare):
+                    free.update(ast.walk(node))
+                elif isinstance(node, ast.Call) and called_name(node) in ("sorted", "len") and not node.keywords:
+                    free.update(ast.walk(node))
+            for node in ast.walk(tree):
+                if isinstance(node, ast.Call) and called_name(node) in ("set", "frozenset"):
+                    with self.subTest(module=module, line=node.lineno):
+                        self.assertIn(node, free)
 
     def test_l27_powers(self):
         def check(node):

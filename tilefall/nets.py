@@ -39,3 +39,12 @@ def net_of(runs):
 
 def posts_of(net):
     return sorted(set([run[0] for run in net] + [run[1] for run in net]))
+
+
+# A dict from each post to its runs, as tuples of a run's number and the post at its other end.
+def runs_beside(net):
+    beside = {}
+    for number, run in enumerate(net):
+        beside.setdefault(run[0], []).append((number, run[1]))
+        beside.setdefault(run[1], []).append((number, run[0]))
+    return beside

@@ -37,11 +37,16 @@ def fraction(top, bottom=1):
 
 
 def added(one, other):
-    return fraction(one[0] * other[1] + other[0] * one[1], one[1] * other[1])
+    # Only what both bottoms share can divide the sum: a great sum and a small time stay quick to add.
+    shared = common_divisor(one[1], other[1])
+    part = other[1] // shared
+    top = one[0] * part + other[0] * (one[1] // shared)
+    divisor = common_divisor(top, shared)
+    return (top // divisor, one[1] // divisor * part)
 
 
 def lessened(one, other):
-    return fraction(one[0] * other[1] - other[0] * one[1], one[1] * other[1])
+    return added(one, (-other[0], other[1]))
 
 
 def timed(one, other):
