@@ -60,3 +60,21 @@ def divided(one, other):
 
 def is_less(one, other):
     return one[0] * other[1] < other[0] * one[1]
+
+
+def is_moment(thing):
+    return is_fraction(thing) and thing[0] >= 0
+
+
+# Over one common bottom fractions compare and add up as their tops do.
+def whole_tops(fractions):
+    bottom = 1
+    for each in fractions:
+        bottom = bottom // common_divisor(bottom, each[1]) * each[1]
+    return [each[0] * (bottom // each[1]) for each in fractions]
+
+
+# Things that have like fractions stay in the order in which they came.
+def sorted_by(fractions, things):
+    pairs = sorted(zip(whole_tops(fractions), things), key=lambda pair: pair[0])
+    return [pair[1] for pair in pairs]
