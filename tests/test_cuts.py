@@ -24,7 +24,8 @@ def slow_kept_still(net, pushed, bell, runs):
 class KeptStill(Refuses):
     def test_ordinary(self):
         for runs, told in (
-            ([], False), ([0], False), ([0, 1], True), ([1, 0], True), ([2, 3], True), ([0, 3], False), ([0, 3, 4], True),
+            ([], False), ([0], False), ([0, 1], True), ([1, 0], True), ([2, 3], True), ([0, 3], False),
+            ([0, 3, 4], True),
             ([1, 2], False), ([4], False), ([0, 0, 1, 1], True), ([0, 0], False), ([4, 3, 2, 1, 0], True),
         ):
             with self.subTest(runs=runs):
@@ -104,6 +105,10 @@ class LeastCut(Refuses):
             ("c", "d", T), ("d", "e", T),
         ]
         self.assertEqual(self.assert_cut(net, ["a"], "z"), 2)
+
+    def test_where_a_run_that_was_given_up_is_used_again(self):
+        pairs = "fe af cf ef bf db fb ab dc ac ae".split()
+        self.assertEqual(self.assert_cut([(one, other, T) for one, other in pairs], ["a"], "b"), 4)
 
     def test_where_nothing_leads(self):
         net = [("a", "b", T), ("c", "d", T)]

@@ -14,11 +14,20 @@ GREAT = 10 ** 59 + 7
 NO_FRACTIONS = (0, 1, True, None, "1", 0.5, (1,), (1, 2, 3), [1, 2], (2, 4), (0, 2), (1, 0), (1, -1), (True, 1), (1, True))
 NO_BELLS = ("", "A", "a1", "a.b.c.d.e", "abcdefghi", "a ", ".a", True, None, 0, ("a",), ["a"], {"a": 1}, b"a", object())
 
+
+class Alike:
+    """What is like anything it is held against."""
+
+    def __eq__(self, other):
+        return True
+
+
 NO_WISHES = (
     None, True, False, 0, 1, 1.5, "after", "with", b"with", [], {}, set(), (), object(), tuple,
     # Unknown words, and things in the place of words.
     ("before", "a", "b", (1, 1)), ("After", "a", "b", (1, 1)), ("", "a", "b"), ("with ", "a", "b"), ("to", "a", (1, 1)),
     (None, "a", "b"), (["with"], "a", "b"), ({}, "a", "b", (1, 1)), (True, "a", (1, 1)), (b"with", "a", "b"),
+    (Alike(), "a", "b"), (Alike(), "a", "b", (1, 1)), (Alike(), "a", (1, 1)),
     # Words with the things of others.
     ("with", "a", (1, 1)), ("from", "a", "b"), ("after", "a", "b"), ("within", "a", "b"), ("with", "a", "b", (1, 1)),
     ("from", "a", "b", (1, 1)), ("after", "a", (1, 1)), ("from", (1, 1), "a"), ("after", (1, 1), "a", "b"),

@@ -14,16 +14,16 @@ def post_called(number):
     return name
 
 
-# The show's unlike moments above (0, 1), rising.
 def rising_moments(show):
-    moments = sorted(set([moment for moment in show.values() if moment != (0, 1)]))
+    moments = sorted(set([show[bell] for bell in show]))
     return sorted_by(moments, moments)
 
 
 def made_net(box, show, double=False):
     times = []
-    ends = {(0, 1): 0}
+    ends = {}
     ahead = (0, 1)
+    # A moment of (0, 1) comes first and is made of nothing: it ends at the first post.
     for moment in rising_moments(show):
         times.extend(made_of(box, lessened(moment, ahead)))
         ends[moment] = len(times)
